@@ -1,0 +1,1 @@
+"""All partners of a service that exchanges messages."""

@@ -1,0 +1,26 @@
+"""What numbers, messages and labels are."""
+
+_LETTERS = "abcdefghijklmnopqrstuvwxyz"
+
+
+def is_number(value):
+    """True if the value is an integer from 0 on [2]."""
+    # Python counts bools among the integers, the document does not.
+    return isinstance(value, int) and not isinstance(value, bool) and value >= 0
+
+
+def is_message(value):
+    """True if the value is a message [3]."""
+    if not isinstance(value, str) or not 1 <= len(value) <= 8:
+        return False
+    return all([letter in _LETTERS for letter in value])
+
+
+def is_label(value):
+    """True if the value is "!" or "?" and a message [3]."""
+    return isinstance(value, str) and value[:1] in ("!", "?") and is_message(value[1:])
+
+
+def ascends(items):
+    """True if each item is less than the next one [2]."""
+    return all([low < high for low, high in zip(items, items[1:])])

@@ -1,0 +1,49 @@
+"""Tests that the names of the document's interface exist as it lists them."""
+
+import importlib
+import inspect
+import unittest
+
+INTERFACE = {
+    "allwhotalk.errors": {
+        "TalkError": ["reason"],
+        "TextError": ["line", "reason"],
+    },
+    "allwhotalk.machines": {
+        "Service": ["inputs", "outputs", "states", "transitions", "final"],
+        "Partner": ["states", "transitions", "final"],
+        "Link": ["capacity", "order", "losses", "doubles"],
+        "Links": ["to_service", "to_partner"],
+        "labels_of": ["service"],
+        "is_partner_for": ["service", "partner"],
+        "together": ["one", "two"],
+        "dual": ["service"],
+    },
+    "allwhotalk.texts": {
+        "service_text": ["service"],
+        "partner_text": ["partner"],
+        "read_service": ["text"],
+        "read_partner": ["text"],
+    },
+}
+
+
+class InterfaceTest(unittest.TestCase):
+    def test_names_and_arguments(self):
+        for module_name, listed in INTERFACE.items():
+            module = importlib.import_module(module_name)
+            for name, arguments in listed.items():
+                with self.subTest(module=module_name, name=name):
+                    self.assertEqual(list(inspect.signature(getattr(module, name)).parameters), arguments)
+
+    def test_each_is_defined_in_its_file(self):
+        for module_name, listed in INTERFACE.items():
+            module = importlib.import_module(module_name)
+            for name in listed:
+                with self.subTest(module=module_name, name=name):
+                    self.assertEqual(getattr(module, name).__module__, module_name)
+                    self.assertEqual(getattr(module, name).__name__, name)
+
+
+if __name__ == "__main__":
+    unittest.main()
