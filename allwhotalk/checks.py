@@ -1,6 +1,7 @@
 """What numbers, messages and labels are."""
 
 _LETTERS = "abcdefghijklmnopqrstuvwxyz"
+_MOST_MESSAGES = 3
 
 
 def is_number(value):
@@ -24,3 +25,21 @@ def is_label(value):
 def ascends(items):
     """True if each item is less than the next one [2]."""
     return all([low < high for low, high in zip(items, items[1:])])
+
+
+def are_sides(inputs, outputs):
+    """True if these are inputs and outputs as a service has them [4]."""
+    if not _are_messages(inputs) or not _are_messages(outputs):
+        return False
+    return not any([message in outputs for message in inputs])
+
+
+def labels_between(sent, received):
+    """The labels of a machine that sends and receives these messages, ascending."""
+    return sorted(["!" + message for message in sent] + ["?" + message for message in received])
+
+
+def _are_messages(items):
+    if not isinstance(items, list) or len(items) > _MOST_MESSAGES:
+        return False
+    return all([is_message(item) for item in items]) and ascends(items)

@@ -1,9 +1,8 @@
 """Services, partners and the links between them."""
 
-from allwhotalk.checks import ascends, is_label, is_message, is_number
+from allwhotalk.checks import are_sides, ascends, is_label, is_number, labels_between
 from allwhotalk.errors import TalkError
 
-_MOST_MESSAGES = 3
 _MOST_SERVICE_STATES = 12
 _MOST_SERVICE_TRANSITIONS = 60
 _MOST_PARTNER_STATES = 300
@@ -57,7 +56,7 @@ class Links:
 
 def labels_of(service):
     """The labels of the interface of the service, ascending [4]."""
-    return _labels(service.inputs, service.outputs)
+    return labels_between(service.inputs, service.outputs)
 
 
 def is_partner_for(service, partner):
@@ -89,15 +88,11 @@ def dual(service):
 
 
 def _is_service(inputs, outputs, states, transitions, final):
-    if not _are_messages(inputs) or not _are_messages(outputs):
-        return False
-    if any([message in outputs for message in inputs]):
-        return False
-    if not _is_machine(states, transitions, final):
+    if not are_sides(inputs, outputs) or not _is_machine(states, transitions, final):
         return False
     if states > _MOST_SERVICE_STATES or len(transitions) > _MOST_SERVICE_TRANSITIONS:
         return False
-    own = _labels(outputs, inputs) + ["tau"]
+    own = labels_between(outputs, inputs) + ["tau"]
     return all([transition[1] in own for transition in transitions])
 
 
@@ -115,12 +110,6 @@ def _is_link(capacity, order, losses, doubles):
     if capacity == 0 and losses + doubles > 0:
         return False
     return order in ("row", "bag")
-
-
-def _are_messages(items):
-    if not isinstance(items, list) or len(items) > _MOST_MESSAGES:
-        return False
-    return all([is_message(item) for item in items]) and ascends(items)
 
 
 def _is_machine(states, transitions, final):
@@ -149,11 +138,6 @@ def _is_state(item, states):
 
 def _link_like(link):
     return Link(link.capacity, link.order, link.losses, link.doubles)
-
-
-def _labels(sent, received):
-    """The labels of a machine that sends and receives these messages, ascending."""
-    return sorted(["!" + message for message in sent] + ["?" + message for message in received])
 
 
 def _turned(label):

@@ -25,6 +25,30 @@ INTERFACE = {
         "read_service": ["text"],
         "read_partner": ["text"],
     },
+    "allwhotalk.systems": {
+        "system_states": ["service", "links"],
+        "results": ["service", "links", "state", "label"],
+        "service_moves": ["service", "links", "state"],
+        "faults": ["service", "links", "state"],
+        "is_waiting": ["service", "links", "state"],
+        "is_finished": ["service", "links", "state"],
+    },
+    "allwhotalk.runs": {
+        "stuck_run": ["service", "links", "partner"],
+        "is_good": ["service", "links", "partner"],
+        "is_stuck_run": ["service", "links", "partner", "run"],
+        "fault_table": ["service", "links", "partner"],
+    },
+    "allwhotalk.guides": {
+        "Node": ["moves", "forbidden", "clauses"],
+        "Guide": ["inputs", "outputs", "nodes"],
+        "form": ["guide"],
+        "knowledge": ["service", "links", "labels"],
+        "build": ["service", "links"],
+        "hopeless": ["service", "links"],
+        "is_hopeless": ["service", "links", "pairs"],
+        "least": ["guide"],
+    },
 }
 
 
