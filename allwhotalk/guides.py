@@ -1,12 +1,13 @@
 """Guides: what all partners that never get stuck have in common."""
 
 from allwhotalk.checks import are_sides, ascends, is_number, labels_between
+from allwhotalk.clauses import FINAL, has_other_part, narrowest
 from allwhotalk.errors import TalkError
 from allwhotalk.machines import labels_of
+from allwhotalk.search import reached
 from allwhotalk.systems import System
 
-_MOST_NODES = 60
-_FINAL = "final"
+MOST_NODES = 60
 
 
 class Node:
@@ -104,27 +105,11 @@ def numbered(nodes):
     The nodes are the values of a dict whose keys are the numbers that their moves have as targets; without
     a node 0 there are none.
     """
-    order = []
-    numbers = {}
-    if 0 in nodes:
-        order.append(0)
-        numbers[0] = 0
-    at = 0
-    while at < len(order):
-        node = nodes[order[at]]
-        # Labels ascend in moves, so nodes are found in the order of the first shortest rows to them.
-        for _, target in node.moves:
-            if target not in numbers:
-                numbers[target] = len(order)
-                order.append(target)
-        at += 1
+    if 0 not in nodes:
+        return []
+    order = reached(0, lambda place: nodes[place].moves)
+    numbers = {number: at for at, number in enumerate(order)}
     return [_retargeted(nodes[number], numbers) for number in order]
-
-
-def narrowest(clauses):
-    """The clauses that have no other one as a part, each once, ascending as lists."""
-    once = sorted({tuple(clause) for clause in clauses})
-    return [list(clause) for clause in once if not _has_other_part(clause, once)]
 
 
 def _copied(items):
@@ -137,7 +122,7 @@ def _copied(items):
 def _is_guide(inputs, outputs, nodes):
     if not are_sides(inputs, outputs):
         return False
-    if not isinstance(nodes, list) or len(nodes) > _MOST_NODES:
+    if not isinstance(nodes, list) or len(nodes) > MOST_NODES:
         return False
     labels = labels_between(inputs, outputs)
     return all([isinstance(node, Node) and _is_node(node, labels, len(nodes)) for node in nodes])
@@ -169,22 +154,14 @@ def _are_words(items):
 def _are_clauses(clauses, moving):
     if not isinstance(clauses, list) or not all([_is_clause(clause, moving) for clause in clauses]):
         return False
-    return ascends(clauses) and not any([_has_other_part(clause, clauses) for clause in clauses])
+    return ascends(clauses) and not any([has_other_part(clause, clauses) for clause in clauses])
 
 
 def _is_clause(clause, moving):
     if not _are_words(clause) or len(clause) == 0:
         return False
     # As a string "final" is greater than every label, so where items ascend it is the last one.
-    return ascends(clause) and all([item in moving or item == _FINAL for item in clause])
-
-
-def _has_other_part(clause, clauses):
-    return any([other != clause and _is_part(other, clause) for other in clauses])
-
-
-def _is_part(part, whole):
-    return all([item in whole for item in part])
+    return ascends(clause) and all([item in moving or item == FINAL for item in clause])
 
 
 def _form_of(node):
@@ -234,7 +211,7 @@ def _all_knowledge(system, labels):
             if lead[label] == len(sets):
                 sets.append(behind)
         leads.append(lead)
-        if len(sets) > _MOST_NODES:
+        if len(sets) > MOST_NODES:
             raise TalkError("too many nodes")
     return sets, leads
 
@@ -292,7 +269,7 @@ def _clause_of(system, state, forbidden):
     """What a partner needs one of at a waiting system state."""
     clause = [label for label in sorted(system.results[state]) if label not in forbidden]
     if system.finished[state]:
-        clause.append(_FINAL)
+        clause.append(FINAL)
     return clause
 
 

@@ -87,6 +87,14 @@ def dual(service):
     return Partner(service.states, turned, service.final)
 
 
+def transitions_from(partner):
+    """For each state of the partner, the pairs (label, state) of its transitions, ascending."""
+    own = [[] for _ in range(partner.states)]
+    for source, label, target in partner.transitions:
+        own[source].append((label, target))
+    return own
+
+
 def _is_service(inputs, outputs, states, transitions, final):
     if not are_sides(inputs, outputs) or not _is_machine(states, transitions, final):
         return False

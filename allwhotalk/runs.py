@@ -1,7 +1,8 @@
 """Runs of a partner with a service, and whether it gets stuck."""
 
 from allwhotalk.errors import TalkError
-from allwhotalk.machines import Link, Links
+from allwhotalk.machines import Link, Links, transitions_from
+from allwhotalk.search import explore, way_to
 from allwhotalk.systems import System
 
 _MOST_LOSSES = 2
@@ -12,23 +13,22 @@ class Meeting:
 
     def __init__(self, service, links, partner):
         self.system = System(service, links)
+        self.own = transitions_from(partner)
         self.final = list(partner.final)
-        # For each state of the partner, the pairs of the label and the target of its transitions.
-        self.own = [[] for _ in range(partner.states)]
-        for source, label, target in partner.transitions:
-            self.own[source].append((label, target))
 
-    def steps(self, state, p):
-        """The triples (action, system state, partner state) to which the actions of a configuration lead."""
+    def steps(self, configuration):
+        """The pairs (action, configuration) of the actions of a configuration."""
+        state, p = configuration
         alone = self.system.moves[state] + self.system.faults[state]
-        found = [(action, target, p) for action, target in alone]
+        found = [(action, (target, p)) for action, target in alone]
         enabled = self.system.results[state]
         for label, q in self.own[p]:
-            found.extend([(label, target, q) for target in enabled.get(label, [])])
+            found.extend([(label, (target, q)) for target in enabled.get(label, [])])
         return found
 
-    def is_stuck(self, state, p):
+    def is_stuck(self, configuration):
         """True if nothing more can be relied on to happen, although the exchange is not finished."""
+        state, p = configuration
         if len(self.system.moves[state]) > 0:
             return False
         if any([pair[0] in self.system.results[state] for pair in self.own[p]]):
@@ -39,21 +39,10 @@ class Meeting:
 def stuck_run(service, links, partner):
     """A stuck run [12] with as few triples as possible; None if the partner is good."""
     meeting = Meeting(service, links, partner)
-    first = (meeting.system.first, 0)
-    # Each configuration that was found, with the action and the configuration that led to it.
-    before = {first: None}
-    queue = [first]
-    at = 0
-    while at < len(queue):
-        state, p = queue[at]
-        if meeting.is_stuck(state, p):
-            return _run_to(before, (state, p))
-        for action, target, q in meeting.steps(state, p):
-            if (target, q) not in before:
-                before[(target, q)] = (action, (state, p))
-                queue.append((target, q))
-        at += 1
-    return None
+    before, stuck = explore((meeting.system.first, 0), meeting.steps, meeting.is_stuck)
+    if stuck is None:
+        return None
+    return _triples(way_to(before, stuck))
 
 
 def is_good(service, links, partner):
@@ -64,12 +53,13 @@ def is_good(service, links, partner):
 def is_stuck_run(service, links, partner, run):
     """True if this list of triples is a stuck run [12]."""
     meeting = Meeting(service, links, partner)
-    state, p = meeting.system.first, 0
+    here = (meeting.system.first, 0)
     for triple in run:
-        if triple not in meeting.steps(state, p):
+        if triple not in _triples(meeting.steps(here)):
             return False
         _, state, p = triple
-    return meeting.is_stuck(state, p)
+        here = (state, p)
+    return meeting.is_stuck(here)
 
 
 def fault_table(service, links, partner):
@@ -82,16 +72,8 @@ def fault_table(service, links, partner):
     return table
 
 
-def _run_to(before, configuration):
-    """The run that leads to a configuration that was found."""
-    run = []
-    here = configuration
-    while before[here] is not None:
-        action, earlier = before[here]
-        run.append((action, here[0], here[1]))
-        here = earlier
-    run.reverse()
-    return run
+def _triples(steps):
+    return [(action, state, p) for action, (state, p) in steps]
 
 
 def _losing(links, i, j):

@@ -49,6 +49,42 @@ INTERFACE = {
         "is_hopeless": ["service", "links", "pairs"],
         "least": ["guide"],
     },
+    "allwhotalk.partners": {
+        "follows": ["guide", "partner"],
+        "following": ["guide", "partner"],
+        "is_following": ["guide", "partner", "pairs"],
+        "violation": ["guide", "partner"],
+        "is_violation": ["guide", "partner", "labels", "state"],
+        "most_permissive": ["guide"],
+        "chosen": ["guide"],
+        "representative": ["guide"],
+        "follows_from": ["guide", "partner", "state"],
+    },
+    "allwhotalk.algebra": {
+        "forbid": ["guide", "labels"],
+        "join": ["one", "two"],
+        "is_within": ["one", "two"],
+        "inclusion": ["one", "two"],
+        "is_inclusion": ["one", "two", "pairs"],
+        "parting": ["one", "two"],
+    },
+    "allwhotalk.replacing": {
+        "can_replace": ["old", "new", "links"],
+        "objection": ["old", "new", "links"],
+    },
+    "allwhotalk.conversations": {
+        "Conversation": ["guide"],
+    },
+}
+
+CONVERSATION_METHODS = {
+    "node": ["self"],
+    "history": ["self"],
+    "record": ["self", "label"],
+    "undo": ["self"],
+    "copy": ["self"],
+    "can_offer": ["self", "labels", "final"],
+    "count_rows": ["self", "length"],
 }
 
 
@@ -67,6 +103,12 @@ class InterfaceTest(unittest.TestCase):
                 with self.subTest(module=module_name, name=name):
                     self.assertEqual(getattr(module, name).__module__, module_name)
                     self.assertEqual(getattr(module, name).__name__, name)
+
+    def test_each_method_is_defined_in_its_class(self):
+        own = vars(importlib.import_module("allwhotalk.conversations").Conversation)
+        for name, arguments in CONVERSATION_METHODS.items():
+            with self.subTest(name=name):
+                self.assertEqual(list(inspect.signature(own[name]).parameters), arguments)
 
 
 if __name__ == "__main__":
